@@ -865,6 +865,37 @@ func TestOver(t *testing.T) {
 	}
 }
 
+// A list that finds no room in the log is laid behind a checkpoint. If it is lost there,
+// the Map is as ahead of the call too.
+func TestMapOfAListThatIsLostBehindItsCheckpoint(t *testing.T) {
+	d, b := newBook(t, 60)
+	mustCommit(t, b, sets(0, 5, 100)...)
+	mustCheckpoint(t, b)
+	for i := 0; ; i++ {
+		pending := b.Pending()
+		before := d.Cut(d.Writes())
+		list := sets(i%9, 2, 150+i)
+		mustCommit(t, b, list...)
+		if b.Pending() > pending {
+			continue
+		}
+		// That one has made a checkpoint: here it is lost at its last write.
+		again := mustOpen(t, before)
+		c, m := contentOf(again), again.Map()
+		before.SetFuse(d.Writes() - before.Writes() - 1)
+		if e := again.Commit(list); e != api.ErrLost {
+			t.Fatalf("%v; not lost", e)
+		}
+		wantBook(t, "lost", again, c)
+		if !sameMap(again.Map(), m) {
+			t.Error("lost: another Map")
+		}
+		before.Restart()
+		wantBook(t, "opened again", mustOpen(t, before), c)
+		return
+	}
+}
+
 // A book that was opened ahead of the loss, and has done nothing since, isn't over.
 func TestDownAheadOfTheCall(t *testing.T) {
 	d, b := newBook(t, 60)
